@@ -1,0 +1,1 @@
+"""Ignorelines: compares lists of ignore rules for all paths, and shortens them."""
