@@ -10,8 +10,8 @@ def walk_of(one, other):
     """The walk of two lists; raises InvalidList, TooLarge."""
     check_lines(one, other)
     graph = Graph([*one, *other])
-    count = len(one)
-    return Walk(graph, view(graph.machine, range(count)), view(graph.machine, range(count, count + len(other))))
+    indices = list(range(len(one) + len(other)))
+    return Walk(graph, view(graph.machine, indices[:len(one)]), view(graph.machine, indices[len(one):]))
 
 
 def states_of(walk, count):

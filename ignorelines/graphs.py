@@ -22,18 +22,18 @@ ONLY_SECOND = ((False, True),)
 def situations(machine):
     """All situations of names, each with its first name, in the order of these names."""
     firsts = {}
-    layer = [(machine.blank, "")]
-    while layer:
-        longer = []
-        for situation, name in layer:
-            for sign in SIGNS:
-                reached = next_situation(machine, situation, sign)
-                if reached not in firsts:
-                    firsts[reached] = name + sign
-                    longer.append((reached, name + sign))
+    waiting = [(machine.blank, "")]
+    done = 0
+    while done < len(waiting):
+        situation, name = waiting[done]
+        done += 1
+        for sign in SIGNS:
+            reached = next_situation(machine, situation, sign)
+            if reached not in firsts:
+                firsts[reached] = name + sign
+                waiting.append((reached, name + sign))
         if len(firsts) > MOST_SITUATIONS:
             raise TooLarge("more than 2000 situations")
-        layer = longer
     return firsts
 
 

@@ -28,7 +28,7 @@ class Lines:
             raise InvalidList("a list of rules has only rules")
         self._rules = list(rules)
         self._machine = Machine(self._rules)
-        self._whole = view(self._machine, range(len(self._rules)))
+        self._whole = view(self._machine, list(range(len(self._rules))))
 
     @classmethod
     def of(cls, *texts):

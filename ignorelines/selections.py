@@ -15,7 +15,7 @@ def differences(lines):
     # Each set has the situations of the whole list, and its states are told by the
     # stages of all rules. So one graph of the whole list serves for all sets.
     graph = Graph(list(lines))
-    whole = view(graph.machine, range(len(lines)))
+    whole = view(graph.machine, list(range(len(lines))))
     found = []
     for chosen in lines.subsets():
         walk = Walk(graph, view(graph.machine, chosen), whole)
@@ -33,7 +33,7 @@ def are_doubts(doubts, lines, sets):
     if not all([is_path(path) for path in doubts]):
         return False
     machine = Machine(list(lines))
-    whole = view(machine, range(len(lines)))
+    whole = view(machine, list(range(len(lines))))
     return all([is_refuted(machine, view(machine, chosen), whole, doubts) for chosen in sets])
 
 

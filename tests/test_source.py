@@ -23,6 +23,13 @@ METHODS = set(
     "join keys ljust lower lstrip partition pop remove replace reverse rfind rjust rpartition rsplit rstrip setdefault "
     "split splitlines startswith strip update upper values zfill bit_length sort".split()
 )
+# What is walked on the spot, and the calls that walk it; of them, the methods without arguments.
+WALKED = {"range", "zip", "enumerate", "reversed", "map"}
+VIEWS = {"items", "keys", "values"}
+WALKERS = {"list", "tuple", "dict", "sorted", "sum", "any", "all", "enumerate", "zip", "min", "max"}
+CHANGING = {
+    "append", "clear", "extend", "insert", "pop", "remove", "reverse", "setdefault", "update", "heappush", "heappop",
+}
 LEFT_OUT = (
     ast.GeneratorExp, ast.Try, ast.With, ast.Global, ast.AsyncFunctionDef, ast.Await, ast.AnnAssign, ast.Lambda, ast.Match,
     ast.Div, ast.Set,
@@ -44,6 +51,53 @@ def own_methods():
         for made in ast.walk(tree) if isinstance(made, ast.ClassDef)
         for node in made.body if isinstance(node, ast.FunctionDef)
     }
+
+
+def is_walked(node):
+    """Whether an expression is one that has to be walked on the spot."""
+    if not isinstance(node, ast.Call):
+        return False
+    if isinstance(node.func, ast.Name):
+        return node.func.id in WALKED
+    return isinstance(node.func, ast.Attribute) and node.func.attr in VIEWS
+
+
+def walking_places(tree):
+    """All expressions that are walked on the spot."""
+    found = []
+    for node in ast.walk(tree):
+        if isinstance(node, (ast.For, ast.comprehension)):
+            found.append(node.iter)
+        elif isinstance(node, ast.Call) and isinstance(node.func, ast.Name) and node.func.id in WALKERS:
+            found += node.args if node.func.id == "zip" else node.args[:1]
+    return found
+
+
+def changed_names(node):
+    """The names of the lists and dicts that are changed in a statement, and in those inside it."""
+    found = set()
+    for part in ast.walk(node):
+        if isinstance(part, ast.Call) and isinstance(part.func, ast.Attribute) and part.func.attr in CHANGING:
+            found.add(ast.unparse(part.func.value))
+        elif isinstance(part, ast.Call) and isinstance(part.func, ast.Name) and part.func.id in CHANGING:
+            found.add(ast.unparse(part.args[0]))
+        elif isinstance(part, ast.Subscript) and not isinstance(part.ctx, ast.Load):
+            found.add(ast.unparse(part.value))
+        elif isinstance(part, ast.AugAssign):
+            found.add(ast.unparse(part.target))
+    return found
+
+
+def with_other_names(function, names):
+    """The names, and those that a plain assignment of the function makes names of the same things."""
+    found = set(names)
+    assignments = [node for node in ast.walk(function) if isinstance(node, ast.Assign)]
+    for _ in assignments:
+        for node in assignments:
+            both = {ast.unparse(node.value), *[ast.unparse(target) for target in node.targets]}
+            if isinstance(node.value, (ast.Name, ast.Attribute)) and both & found:
+                found |= both
+    return found
 
 
 class TestSource(TestCase):
@@ -99,6 +153,23 @@ class TestSource(TestCase):
                     self.assertIn(node.func.id, BUILTINS | bound | {"cls"}, name)
                 if isinstance(node, ast.Call) and isinstance(node.func, ast.Attribute):
                     self.assertIn(node.func.attr, METHODS | known, name)
+
+    def test_ranges_and_views_are_walked_on_the_spot(self):
+        for name, tree in trees():
+            places = walking_places(tree)
+            for node in ast.walk(tree):
+                if is_walked(node):
+                    self.assertIn(node, places, (name, node.lineno))
+
+    def test_what_a_loop_walks_is_not_changed_in_it(self):
+        for name, tree in trees():
+            for function in ast.walk(tree):
+                if not isinstance(function, ast.FunctionDef):
+                    continue
+                for loop in ast.walk(function):
+                    if isinstance(loop, ast.For) and isinstance(loop.iter, (ast.Name, ast.Attribute)):
+                        walked = with_other_names(function, {ast.unparse(loop.iter)})
+                        self.assertEqual(walked & changed_names(loop), set(), (name, loop.lineno))
 
     def test_module_level(self):
         kinds = (ast.ImportFrom, ast.FunctionDef, ast.ClassDef, ast.Assign)
