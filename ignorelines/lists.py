@@ -44,8 +44,7 @@ class Lines:
         return iter(self._rules)
 
     def __getitem__(self, at):
-        if isinstance(at, bool) or not isinstance(at, int) or not 0 <= at < len(self._rules):
-            raise InvalidIndex("not the index of a rule")
+        check_index(at, len(self._rules))
         return self._rules[at]
 
     def __add__(self, other):
@@ -72,6 +71,12 @@ def check_lines(*values):
     """Raises InvalidList if one of the values is not a list of rules."""
     if not all([isinstance(value, Lines) for value in values]):
         raise InvalidList("not a list of rules")
+
+
+def check_index(value, count):
+    """Raises InvalidIndex if a value is not one of the first indices, of which there are this many."""
+    if isinstance(value, bool) or not isinstance(value, int) or not 0 <= value < count:
+        raise InvalidIndex("not an index that can be used here")
 
 
 def verdict(lines, path):

@@ -5,7 +5,7 @@ tells the stages of all rules. A situation is the one for the parts.
 """
 
 from ignorelines.paths import SIGNS, names_of
-from ignorelines.tracks import Track, closed, moved
+from ignorelines.tracks import Track, closed, moved, places_of
 
 
 class Machine:
@@ -63,8 +63,7 @@ def stage(machine, index, state):
     """The stage of a rule in a state."""
     start = machine.patterns.starts[index]
     end = machine.patterns.ends[index]
-    bits = (state & (end | (end - start))) // start
-    return tuple([k for k in range(bits.bit_length()) if bits & (1 << k)])
+    return places_of((state & (end | (end - start))) // start)
 
 
 def view(machine, indices):

@@ -86,3 +86,9 @@ class Rule:
             and self._directories == other._directories
             and self._anchored == other._anchored
         )
+
+
+def check_rule(value):
+    """Raises InvalidRule if a value is not a rule."""
+    if not isinstance(value, Rule):
+        raise InvalidRule("not a rule")

@@ -50,3 +50,8 @@ def moved(track, bits, hits, fresh):
     `fresh` are the bits that are there again, whatever came before.
     """
     return closed(track, ((bits & hits) << 1) | (bits & track.stay) | fresh)
+
+
+def places_of(bits):
+    """The ascending tuple of the places of the bits that are set in a number."""
+    return tuple([k for k in range(bits.bit_length()) if bits & (1 << k)])

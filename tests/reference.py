@@ -207,3 +207,34 @@ class Sets:
 
     def are_doubts(self, doubts, sets):
         return all(any(self.refuted(chosen, path) for path in doubts) for chosen in sets)
+
+
+def exchanged(rules, k):
+    return [*rules[:k], rules[k + 1], rules[k], *rules[k + 2:]]
+
+
+def free_neighbours(rules):
+    return [k for k in range(len(rules) - 1) if first_difference(rules, exchanged(rules, k)) is None]
+
+
+class SlowEditor:
+    """All that [13] says, but for the errors of wrong arguments."""
+
+    def __init__(self, rules):
+        self.rules = rules
+        self.past = []
+
+    def tried(self, rules):
+        """Takes the step to other rules, and returns None, or the first path that is against it."""
+        path = first_difference(self.rules, rules)
+        if path is None:
+            self.past.append(self.rules)
+            self.rules = rules
+        return path
+
+    def without(self, k):
+        return self.rules[:k] + self.rules[k + 1:]
+
+    def needless(self):
+        many = len(self.rules)
+        return [k for k in range(many) if many > 1 and first_difference(self.rules, self.without(k)) is None]

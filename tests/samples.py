@@ -19,6 +19,17 @@ NOT_LINES = [
     {1, 2}, frozenset(), range(3), [[]], 10 ** 30,
 ]
 
+NOT_RULES = [
+    None, True, False, 0, 1, "", "a", "!a/", b"a", [], [Rule("a")], (Rule("a"),), {}, {"a"}, object(), Rule, Lines,
+    Lines([Rule("a")]), ("a", False, False, False), 10 ** 30,
+]
+
+# No indices of any list, whatever its length.
+NOT_INDICES = [
+    -1, -2, 7, 8, 100, 10 ** 30, -(10 ** 30), True, False, None, "", "0", "a", b"0", [], [0], (), (0,), {}, {0: 0}, {0},
+    object(), slice(0, 1), Rule("a"), int, range(1),
+]
+
 NOT_PATHS = [
     "", "/", "//", "/a", "a//", "a//b", "a/b//", "A", "a b", " ", "a\n", "\n", "d", "a/d", "a*", "?", "**", "a/-",
     "a\\b", "!a", "\u0430", "a/b/c/d", "a\x00", None, True, False, 0, 1, b"a", [], ["a"], ("a",), {}, {"a": 1}, object(),
@@ -93,6 +104,9 @@ MANY_SITUATIONS = (
 )
 ONE_SITUATION_TOO_MANY = (MANY_SITUATIONS[0], MANY_SITUATIONS[1] + Rule.of("ab"))
 TOO_MANY_SITUATIONS = Lines.of("*a??????????", "*b???")
+
+# Which of the last eleven signs are an a.
+TOO_LARGE_RULE = Rule.of("*a??????????")
 
 TOO_LARGE_LISTS = [TOO_MANY_STATES, TOO_MANY_SITUATIONS]
 TOO_LARGE_PAIRS = [

@@ -14,6 +14,9 @@ FUNCTIONS = {
         "rescues": "(lines)", "family": "(lines)",
     },
     "shortening": {"shortest": "(lines)"},
+    "ordering": {"exchanged": "(lines, index)", "free_neighbours": "(lines)"},
+    "texts": {"rule_text": "(rule)", "lines_text": "(lines)", "read_lines": "(text)"},
+    "digits": {"encode_sets": "(lines, sets)", "decode_sets": "(lines, text)"},
 }
 
 CLASSES = {
@@ -29,6 +32,19 @@ CLASSES = {
     ("deciding", "Differ"): ["NAME", "__init__", "fields", "is_correct"],
     ("families", "Family"): ["NAME", "__init__", "fields", "is_correct"],
     ("shortening", "Shortest"): ["NAME", "__init__", "fields", "is_correct"],
+    ("editors", "Editor"): [
+        "__init__", "__len__", "lines", "history", "leave_out", "exchange", "insert", "undo", "needless",
+    ],
+}
+
+PROPERTIES = {
+    ("rules", "Rule"): ["pattern", "again", "directories", "anchored"],
+    ("evidence", "Evidence"): ["fields"],
+    ("deciding", "Agree"): ["fields"],
+    ("deciding", "Differ"): ["fields"],
+    ("families", "Family"): ["fields"],
+    ("shortening", "Shortest"): ["fields"],
+    ("editors", "Editor"): ["lines", "history"],
 }
 
 PARAMETERS = {
@@ -39,6 +55,7 @@ PARAMETERS = {
     ("deciding", "Differ"): "(path)",
     ("families", "Family"): "(sets, doubts)",
     ("shortening", "Shortest"): "(found, doubts)",
+    ("editors", "Editor"): "(lines)",
 }
 
 
@@ -65,6 +82,11 @@ class TestInterface(TestCase):
         for (place, name), parameters in PARAMETERS.items():
             self.assertEqual(str(inspect.signature(getattr(module(place), name))), parameters)
 
+    def test_properties(self):
+        for (place, name), properties in PROPERTIES.items():
+            for told in properties:
+                self.assertIsInstance(vars(getattr(module(place), name))[told], property)
+
     def test_parameters_of_methods(self):
         for place, name in (("deciding", "Agree"), ("deciding", "Differ")):
             method = getattr(module(place), name).is_correct
@@ -75,3 +97,9 @@ class TestInterface(TestCase):
         self.assertEqual(str(inspect.signature(module("rules").Rule.matches)), "(self, path)")
         self.assertEqual(str(inspect.signature(module("rules").Rule.of)), "(text)")
         self.assertEqual(str(inspect.signature(module("lists").Lines.of)), "(*texts)")
+        editor = module("editors").Editor
+        for name, parameters in (
+            ("leave_out", "(self, index)"), ("exchange", "(self, index)"), ("insert", "(self, index, rule)"),
+            ("undo", "(self)"), ("needless", "(self)"),
+        ):
+            self.assertEqual(str(inspect.signature(getattr(editor, name))), parameters)

@@ -4,15 +4,9 @@ from random import Random
 from unittest import TestCase
 
 import reference
-from ignorelines.errors import InvalidList, TooLarge
 from ignorelines.lists import Lines
 from ignorelines.shortening import Shortest, shortest
-from samples import NOT_LINES, NOT_PATHS, PATTERNS, SMALL, TOO_LARGE_LISTS, some_lines
-
-
-def functions():
-    """All functions and methods of the module that take a list."""
-    return [shortest, Shortest((), []).is_correct, Shortest((0,), ["a"]).is_correct, Shortest((), ["//"]).is_correct]
+from samples import NOT_PATHS, PATTERNS, SMALL, some_lines
 
 
 def many_lists(seed, number):
@@ -110,17 +104,3 @@ class TestChangedResults(TestCase):
         self.assertIs(result.is_correct(lines), False)
         result.doubts.append("b")
         self.assertIs(result.is_correct(lines), True)
-
-
-class TestErrors(TestCase):
-    def test_no_list(self):
-        for function in functions():
-            for value in NOT_LINES:
-                with self.assertRaises(InvalidList, msg=repr(value)):
-                    function(value)
-
-    def test_too_large(self):
-        for function in functions():
-            for lines in TOO_LARGE_LISTS:
-                with self.assertRaises(TooLarge):
-                    function(lines)

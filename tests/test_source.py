@@ -31,7 +31,7 @@ CHANGING = {
     "append", "clear", "extend", "insert", "pop", "remove", "reverse", "setdefault", "update", "heappush", "heappop",
 }
 LEFT_OUT = (
-    ast.GeneratorExp, ast.Try, ast.With, ast.Global, ast.AsyncFunctionDef, ast.Await, ast.AnnAssign, ast.Lambda, ast.Match,
+    ast.GeneratorExp, ast.With, ast.Global, ast.AsyncFunctionDef, ast.Await, ast.AnnAssign, ast.Lambda, ast.Match,
     ast.Div, ast.Set,
 )
 
@@ -42,6 +42,12 @@ def files():
 
 def trees():
     return [(path.name, ast.parse(path.read_text())) for path in files()]
+
+
+def own_classes(file):
+    """The names of the classes of a file."""
+    tree = ast.parse((FOLDER / file).read_text())
+    return [node.name for node in tree.body if isinstance(node, ast.ClassDef)]
 
 
 def own_methods():
@@ -142,6 +148,16 @@ class TestSource(TestCase):
                     self.assertNotIn(node.id, NOT_USED, name)
                 if isinstance(node, ast.Attribute):
                     self.assertFalse(node.attr in NOT_USED, (name, node.attr))
+
+    def test_only_own_errors_are_caught(self):
+        own = own_classes("errors.py")
+        for name, tree in trees():
+            for node in ast.walk(tree):
+                if isinstance(node, ast.Try):
+                    self.assertEqual([node.finalbody, node.orelse], [[], []])
+                if isinstance(node, ast.ExceptHandler):
+                    self.assertIsInstance(node.type, ast.Name)
+                    self.assertIn(node.type.id, own, name)
 
     def test_calls(self):
         known = own_methods()
